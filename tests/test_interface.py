@@ -1,0 +1,41 @@
+"""The names and the arguments that the document's interface lists."""
+import importlib
+import inspect
+import unittest
+
+FUNCTIONS = {
+    "sums": """is_sum(told, many) letter(at, many) plus(one, other) times(one, other) power(one, times)
+        divided(one, other) least_powers(one) freed(one) ones(one, places) value(one, numbers) put(one, others)""",
+    "boards": """is_board(told) size(board) weights(board) swapped(board, place) swapped_by(board, row) pieces(board)
+        table(board) unit_board(board) marked(board, rows) without_mark(board, at) negative(board) turned(board)
+        renamed(board, order) first_renamed(board) beside(one, other) part(board, places)""",
+    "hands": """first_hand(board) products(hand, place) swapped_hand(hand, place) hand_by(board, row)
+        same_hands(one, other) beside_hands(board, row) shortened(row) sum_by(board, row)""",
+    "ends": """is_endless(board) endless_row(board) shows_endless(board, row) types(board) how_many_hands(board)
+        how_many_sums(board) all_rows(board) all_sums(board) row_between(board, row, other) farthest(board)""",
+    "within": """written(board, row, told) is_let(board, told) barring(board, told) as_product(board, row, told)
+        read_back(board, row, told)""",
+    "rounds": "round_length(board, place, other) web(board) rings(board) distances(board)",
+}
+
+
+class Interface(unittest.TestCase):
+    def test_functions(self):
+        for file, told in FUNCTIONS.items():
+            module = importlib.import_module("neverhalves." + file)
+            for line in told.replace(")", ")\n").splitlines():
+                if not line.strip():
+                    continue
+                name, arguments = line.strip().rstrip(")").split("(")
+                function = getattr(module, name)
+                self.assertTrue(inspect.isfunction(function), name)
+                self.assertEqual(function.__module__, module.__name__)
+                parameters = inspect.signature(function).parameters.values()
+                self.assertEqual([one.name for one in parameters], arguments.split(", "), name)
+                for one in parameters:
+                    self.assertIs(one.kind, inspect.Parameter.POSITIONAL_OR_KEYWORD)
+                    self.assertIs(one.default, inspect.Parameter.empty)
+
+
+if __name__ == "__main__":
+    unittest.main()
