@@ -4,6 +4,7 @@ from neverhalves.boards import (
 )
 from neverhalves.errors import Endless
 from neverhalves.hands import begun, swapped_at
+from neverhalves.ways import first_row, swaps_of
 
 # How many hands and how many sums a piece of a type with n places has.
 COUNTS = {
@@ -22,23 +23,7 @@ def is_heavy(board):
 
 def heavy_row(rows):
     """The first row behind which a table is heavy, shorter ones first, then ascending; None if none."""
-    if is_heavy(rows):
-        return ()
-    seen = {rows: True}
-    level = [((), rows)]
-    while level:
-        further = []
-        for row, now in level:
-            for place in range(len(rows)):
-                then = swap_once(now, place)
-                if then in seen:
-                    continue
-                if is_heavy(then):
-                    return row + (place,)
-                seen[then] = True
-                further.append((row + (place,), then))
-        level = further
-    return None
+    return first_row(rows, swaps_of, is_heavy, None)
 
 
 def piece_tables(board):
@@ -168,18 +153,29 @@ def all_rows(board):
     return [row for row, _ in walk(with_units(board))[0]]
 
 
+def hands_found(board):
+    """A dict of the hands behind `all_rows`, by these rows, in their order."""
+    hands = {}
+    for row, _ in walk(with_units(board))[0]:
+        # A first row without its last place is a first row too.
+        hands[row] = swapped_at(hands[row[:-1]], row[-1]) if row else begun(board)
+    return hands
+
+
+def sums_found(board):
+    """What `all_sums` tells, without checks."""
+    told = {}
+    for sums, _ in hands_found(board).values():
+        for one in sums:
+            told[one] = True
+    return sorted(told)
+
+
 def all_sums(board):
     """The ascending list of the sums of all hands."""
     check_board(board)
     check_ends(board)
-    hands = {}
-    told = {}
-    for row, _ in walk(with_units(board))[0]:
-        # A first row without its last place is a first row too.
-        hands[row] = swapped_at(hands[row[:-1]], row[-1]) if row else begun(board)
-        for one in hands[row][0]:
-            told[one] = True
-    return sorted(told)
+    return sums_found(board)
 
 
 def row_between(board, row, other):

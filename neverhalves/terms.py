@@ -52,14 +52,21 @@ def added(one, other):
     return sum_of_terms(terms)
 
 
-def without_letters(told, places):
-    """A sum with 1 put for the letters of some indexes."""
-    left_out = {place: True for place in places}
+def with_powers(told, change):
+    """A sum with the powers of each term changed by a function; terms that are alike then are added up."""
     terms = {}
     for powers, coefficient in told:
-        kept = tuple([0 if at in left_out else power for at, power in enumerate(powers)])
-        terms[kept] = terms.get(kept, 0) + coefficient
+        key = change(powers)
+        terms[key] = terms.get(key, 0) + coefficient
     return sum_of_terms(terms)
+
+
+def without_letters(told, places):
+    """A sum with 1 put for the letters of some indexes."""
+    gone = {place: True for place in places}
+    return with_powers(
+        told, lambda powers: tuple([0 if at in gone else power for at, power in enumerate(powers)])
+    )
 
 
 def reach_of(told):

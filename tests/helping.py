@@ -1,8 +1,12 @@
 """What the tests share: boards, plain ways to work things out again, and a way to ask for errors."""
 import itertools
 import random
+import time
 import unittest
 from fractions import Fraction
+
+# Far more than any call at the bounds takes, and far less than one that grows without an end.
+SECONDS = 60
 
 TWO = ((0, 1), (-1, 0))
 THREE = ((0, 1, 0), (-1, 0, 1), (0, -1, 0))
@@ -20,6 +24,10 @@ G2 = ((0, 1), (-3, 0))
 DOUBLE = ((0, 2), (-2, 0))
 MARKOV = ((0, 2, -2), (-2, 0, 2), (2, -2, 0))
 SQUARE = ((0, 1, 0, 1), (-1, 0, 1, 0), (0, -1, 0, 1), (-1, 0, -1, 0))
+
+# The rows of eight marks, with entries to the bounds.
+MARKS = [(4, -4, 4, -4), (-1, 2, -3, 4), (0, 0, 0, 0), (4, 4, 4, 4), (-4, -4, -4, -4), (1, 0, -1, 0), (3, 1, 2, -2),
+         (0, -3, 0, 1)]
 
 # By the document's types: boards, how many hands, how many sums.
 FINITE = [
@@ -142,6 +150,14 @@ def random_sum(seed, terms, letters, reach, digits):
     return as_sum(found)
 
 
+def letters_added(places, letters, plain=0):
+    """The sum of some letters, and of a number but 0."""
+    terms = {tuple(int(at == place) for at in range(letters)): 1 for place in places}
+    if plain:
+        terms[(0,) * letters] = plain
+    return as_sum(terms)
+
+
 def random_row(seed, places, length):
     """A row without a place twice side by side, where there are two places."""
     chance = random.Random(seed)
@@ -190,3 +206,13 @@ class Case(unittest.TestCase):
             self.assertEqual(frozen(function(**named)), frozen(second))
         self.assertEqual(frozen(list(named.values())), before)
         return second
+
+
+class Timed(Case):
+    """A test case each test of which has to come to an end."""
+
+    def setUp(self):
+        self.begun = time.monotonic()
+
+    def tearDown(self):
+        self.assertLess(time.monotonic() - self.begun, SECONDS)

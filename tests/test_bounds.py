@@ -1,36 +1,16 @@
 """A call of each function at the bounds of point [2] and of the sections: they are quick enough."""
-import time
 import unittest
 
 from helping import (
-    A4, B4, C4, D4, F4, MARKOV, Case, as_sum, blocks, random_row, random_sum, units, with_marks,
+    A4, B4, C4, D4, F4, MARKOV, MARKS, Timed, as_sum, blocks, letters_added, random_row, random_sum, units, with_marks,
 )
 from neverhalves import boards, ends, hands, rounds, sums, within
 from neverhalves.errors import Endless, NotExact
 
-# Far more than any of these calls takes, and far less than one that grows without an end.
-SECONDS = 60
-
-MARKS = [(4, -4, 4, -4), (-1, 2, -3, 4), (0, 0, 0, 0), (4, 4, 4, 4), (-4, -4, -4, -4), (1, 0, -1, 0), (3, 1, 2, -2),
-         (0, -3, 0, 1)]
 WIDE = with_marks(F4, *MARKS)
 
 
-def letters_added(places, letters, plain=0):
-    """The sum of some letters, and of a number but 0."""
-    terms = {tuple(int(at == place) for at in range(letters)): 1 for place in places}
-    if plain:
-        terms[(0,) * letters] = plain
-    return as_sum(terms)
-
-
-class Bounds(Case):
-    def setUp(self):
-        self.begun = time.monotonic()
-
-    def tearDown(self):
-        self.assertLess(time.monotonic() - self.begun, SECONDS)
-
+class Bounds(Timed):
     def test_sums_of_three_hundred_terms(self):
         one = random_sum(1, 300, 12, 40, 30)
         other = random_sum(2, 300, 12, 40, 30)

@@ -16,6 +16,20 @@ FUNCTIONS = {
     "within": """written(board, row, told) is_let(board, told) barring(board, told) as_product(board, row, told)
         read_back(board, row, told)""",
     "rounds": "round_length(board, place, other) web(board) rings(board) distances(board)",
+    "polygons": """is_cut(corners, told) cuts(corners) exchanged(corners, cut, place) board_of(corners, cut, sides)
+        diagonal_sum(corners, cut, told, sides) lengths(corners, cut) row_to(corners, cut, other)""",
+    "longrows": """values(board, row, numbers) order_back(board, row) long_row(board, row, times)
+        long_values(board, row, times) comes_round(board, row, most)""",
+    "columns": """columns(board, row) greens(board, row) is_green(board, row) is_full(board, row) first_red(board, row)
+        full_rows(board, length) shortest_full(board, most) last_order(board, row) by_columns(board, row, other)""",
+    "heights": """heights(board, row) shapes(board, row) height_of(board, told) shape_of(board, told) determinant(rows)
+        sum_at(board, height, shape) row_to_height(board, height) hand_of_heights(board, told)""",
+    "marks": """marks_at(board, row) by_heights(board, row) common_marks(board, shape) merged(board, at, other)
+        merged_hand(hand, at, other) mark_freed(hand, at) scaled(board, at, times)""",
+    "depths": """depth(board, told) depths(board) sums_of_depth(board, told) go_together(board, one, other)
+        hands_with(board, sums) lots_together(board, many) partner(board, row, place)""",
+    "alikes": """boards_of(board) are_alike(one, other) row_to_board(one, other, most) least_board(board) is_tree(board)
+        row_to_tree(board, most) sources(board) directed_round(board)""",
 }
 
 

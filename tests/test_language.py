@@ -195,6 +195,11 @@ class Language(unittest.TestCase):
                 if isinstance(node, ast.Starred):
                     self.assertIsInstance(node.value, (ast.Name, ast.Attribute), where)
 
+    def test_lambdas(self):
+        for name, _, tree in sources():
+            rows = [node.lineno for node in ast.walk(tree) if isinstance(node, ast.Lambda)]
+            self.assertEqual(len(rows), len(set(rows)), name)
+
     def test_methods(self):
         own = {node.name for _, _, tree in sources() for node in ast.walk(tree) if isinstance(node, ast.FunctionDef)}
         for name, _, tree in sources():
