@@ -33,6 +33,11 @@ def is_tree_table(rows):
     return len(joined) == 2 * (len(rows) - 1) and len(pieces(rows)) == 1
 
 
+def source_places(board):
+    """What `sources` tells, without checks."""
+    return [place for place, row in enumerate(table_of(board)) if min(row) >= 0]
+
+
 def check_most(most):
     """Refuses a number below 0."""
     if most < 0:
@@ -89,7 +94,7 @@ def row_to_tree(board, most):
 def sources(board):
     """The ascending list of the places in whose row of the table no entry is below 0."""
     check_board(board)
-    return [place for place, row in enumerate(table_of(board)) if min(row) >= 0]
+    return source_places(board)
 
 
 def directed_round(board):

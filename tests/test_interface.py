@@ -30,25 +30,54 @@ FUNCTIONS = {
         hands_with(board, sums) lots_together(board, many) partner(board, row, place)""",
     "alikes": """boards_of(board) are_alike(one, other) row_to_board(one, other, most) least_board(board) is_tree(board)
         row_to_tree(board, most) sources(board) directed_round(board)""",
+    "folds": """rounds_of(order) is_fold(table, order) folds(table) folded(table, order) unfolded_row(order, row)
+        folded_sum(order, told) folded_hand(table, order, row) steady(table, order, row)""",
+    "belts": """is_parted(board) turn_places(board, turn) belt(board, turns) belt_hand(board, turns) half_length(board)
+        belt_length(board) belt_sums(board) belt_values(board, turns) number_of(kind)""",
+}
+# Each class with what it is made of, its properties and its methods.
+CLASSES = {
+    "live": ("Live(board)", "board sums row first", """__len__() swap(place) do(row) undo() sum_now(place)
+        worth(place, numbers) columns() heights() greens() twin() order()"""),
 }
 
 
+def calls(told):
+    """The tuples (name, list of the arguments) of a text of calls."""
+    for line in told.replace(")", ")\n").splitlines():
+        if line.strip():
+            name, arguments = line.strip().rstrip(")").split("(")
+            yield name, [one for one in arguments.split(", ") if one]
+
+
 class Interface(unittest.TestCase):
+    def check(self, function, arguments):
+        self.assertTrue(inspect.isfunction(function))
+        parameters = inspect.signature(function).parameters.values()
+        self.assertEqual([one.name for one in parameters], arguments, function)
+        for one in parameters:
+            self.assertIs(one.kind, inspect.Parameter.POSITIONAL_OR_KEYWORD)
+            self.assertIs(one.default, inspect.Parameter.empty)
+
     def test_functions(self):
         for file, told in FUNCTIONS.items():
             module = importlib.import_module("neverhalves." + file)
-            for line in told.replace(")", ")\n").splitlines():
-                if not line.strip():
-                    continue
-                name, arguments = line.strip().rstrip(")").split("(")
+            for name, arguments in calls(told):
                 function = getattr(module, name)
-                self.assertTrue(inspect.isfunction(function), name)
+                self.check(function, arguments)
                 self.assertEqual(function.__module__, module.__name__)
-                parameters = inspect.signature(function).parameters.values()
-                self.assertEqual([one.name for one in parameters], arguments.split(", "), name)
-                for one in parameters:
-                    self.assertIs(one.kind, inspect.Parameter.POSITIONAL_OR_KEYWORD)
-                    self.assertIs(one.default, inspect.Parameter.empty)
+
+    def test_classes(self):
+        for file, (made, properties, methods) in CLASSES.items():
+            module = importlib.import_module("neverhalves." + file)
+            (name, arguments), = calls(made)
+            own = vars(getattr(module, name))
+            self.assertEqual(getattr(module, name).__module__, module.__name__)
+            self.check(own["__init__"], ["self"] + arguments)
+            for one in properties.split():
+                self.assertIsInstance(own[one], property)
+            for method, arguments in calls(methods):
+                self.check(own[method], ["self"] + arguments)
 
 
 if __name__ == "__main__":

@@ -158,7 +158,7 @@ class Language(unittest.TestCase):
             defined = {node.name for node in ast.walk(tree) if isinstance(node, (ast.FunctionDef, ast.ClassDef))}
             self.assertEqual((local | defined) & set(dir(builtins)) - {"_"}, set(), name)
             for one in local | defined:
-                self.assertRegex(one, r"^_?[A-Za-z][A-Za-z0-9_]*$|^_$|^__init__$")
+                self.assertRegex(one, r"^_?[A-Za-z][A-Za-z0-9_]*$|^_$|^__init__$|^__len__$")
             for node in ast.walk(tree):
                 if isinstance(node, ast.Name) and node.id == "_":
                     self.assertIsInstance(node.ctx, ast.Store)
