@@ -2,8 +2,10 @@
 import itertools
 import unittest
 
-from helping import A4, B2, C3, D4, G2, MARKS, TWO, Timed, blocks, random_row, random_sum, with_marks
-from neverhalves import belts, boards, ends, folds, hands, live
+from helping import (
+    A4, B2, B4, C3, C4, D4, F4, G2, MARKS, SQUARE, TWO, Timed, blocks, random_row, random_sum, with_marks,
+)
+from neverhalves import belts, boards, books, desk, ends, folds, hands, live, readers, texts
 
 SIX = ((0,) * 6,) * 6
 FULL_SIX = tuple(tuple(0 if at == far else 2 if far > at else -2 for far in range(6)) for at in range(6))
@@ -78,6 +80,67 @@ class Bounds(Timed):
         one = live.Live(steep)
         one.do((0, 1) * 4)
         self.assertEqual(len(one), 8)
+
+    def test_books(self):
+        half = ((0, 2, -2, 2), (-2, 0, 2, -2), (2, -2, 0, 2), (-2, 2, -2, 0))
+        for table in (half, SQUARE, F4, D4, A4, ((0, 0, 0, 0),) * 4, ((0, 2, 0, 0), (-2, 0, 2, 0), (0, -2, 0, 2), (0, 0, -2, 0))):
+            board = with_marks(table, *MARKS)
+            for seed in range(4):
+                row = random_row(seed, 4, 6)
+                least = books.least_row(board, row)
+                self.assertIs(books.lead_alike(board, row, least), True)
+                self.assertIs(books.is_nothing(board, books.behind(row, books.back(row))), True)
+                self.assertIs(books.is_turn(board, row), least == ())
+                self.assertEqual(books.order_behind(board, row) is None, least != ())
+            for length in range(7):
+                for row in books.rows_back(board, length):
+                    self.assertEqual(len(row), length)
+        for table in (F4, B4, C4):
+            board = with_marks(table, *MARKS)
+            for seed in range(4):
+                row = random_row(seed, 4, 12)
+                wanted = hands.hand_by(board, row) == hands.first_hand(board)
+                self.assertIs(books.is_nothing(board, row), wanted)
+                self.assertIs(books.lead_alike(board, row, random_row(seed + 4, 4, 11)), False)
+
+    def test_texts(self):
+        for seed in range(5):
+            told = random_sum(seed, 60, 12, 40, 29)
+            text = texts.show_sum(told)
+            self.assertLess(len(text), 7000)
+            self.assertEqual(readers.read_sum(text, 12), told)
+        wide = with_marks(F4, *MARKS)
+        for seed in range(5):
+            hand = hands.hand_by(wide, random_row(seed, 4, 12))
+            self.assertEqual(readers.read_hand(texts.show_hand(hand)), hand)
+        big = boards.beside(boards.beside(wide, wide), boards.beside(wide, wide))
+        self.assertEqual(readers.read_board(texts.show_board(big)), big)
+        self.assertEqual(len(texts.show_numbers([(10 ** 3999, 10 ** 3999 - 1)])), 4000 + 1 + 3999)
+        self.assertEqual(len(readers.read_row(texts.show_row((10 ** 29,) * 160))), 160)
+
+    def test_desk(self):
+        one = desk.Desk()
+        one.put("b", with_marks(D4, *MARKS[:2]))
+        one.put("g", with_marks(G2, (1, -1)))
+        one.note("r", (0, 1, 2, 3, 0, 1, 2, 3, 0, 1, 2, 3))
+        while len(one) < 290:
+            one.make("s", ("swapped", "b", "r"))
+            one.make("n", ("negative", "s"))
+            one.branch("f" + "abcdefghijklmnopqrstuvwxyz"[len(one) // 26] + "abcdefghijklmnopqrstuvwxyz"[len(one) % 26])
+            one.make("w", ("beside", "s", "n"))
+            one.make("w", ("beside", "w", "g"))
+        self.assertEqual(one.types("w"), [("D", 4), ("D", 4), ("G", 2)])
+        self.assertEqual(len(one.hand("w", "r")[0]), 10)
+        for _ in range(3):
+            one.make("w", ("beside", "w", "w"))
+        self.assertEqual(boards.size(one.board_named("w")), (80, 40))
+        one.order("unit w w")
+        one.order("turned w w")
+        self.assertEqual(len(one.board_named("w")), 80)
+        many = len(one)
+        for _ in range(many):
+            one.undo()
+        self.assertEqual((one.names(), one.forks()), ([], ["main"]))
 
 
 if __name__ == "__main__":

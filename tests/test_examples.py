@@ -13,7 +13,7 @@ class Examples(unittest.TestCase):
         self.assertGreaterEqual(found.attempted, least)
 
     def test_session(self):
-        self.check(os.path.join(HERE, "session.txt"), 44)
+        self.check(os.path.join(HERE, "session.txt"), 53)
 
     def test_readme(self):
         self.check(os.path.join(HERE, "..", "README.md"), 4)

@@ -34,11 +34,18 @@ FUNCTIONS = {
         folded_sum(order, told) folded_hand(table, order, row) steady(table, order, row)""",
     "belts": """is_parted(board) turn_places(board, turn) belt(board, turns) belt_hand(board, turns) half_length(board)
         belt_length(board) belt_sums(board) belt_values(board, turns) number_of(kind)""",
+    "books": """behind(row, other) back(row) is_nothing(board, row) is_turn(board, row) lead_alike(board, one, other)
+        least_row(board, row) rows_back(board, length) order_behind(board, row)""",
+    "texts": "show_row(row) show_board(board) show_sum(told) show_hand(hand) show_numbers(numbers)",
+    "readers": "read_row(text) read_board(text) read_hand(text) read_sum(text, many)",
 }
 # Each class with what it is made of, its properties and its methods.
 CLASSES = {
     "live": ("Live(board)", "board sums row first", """__len__() swap(place) do(row) undo() sum_now(place)
         worth(place, numbers) columns() heights() greens() twin() order()"""),
+    "desk": ("Desk()", "fork", """__len__() forks() names() put(name, board) note(name, row) make(name, deed) drop(name)
+        branch(name) switch(name) undo() board_named(name) row_named(name) hand(board, row) same_as(name)
+        lead_alike(board, one, other) is_endless(name) types(name) order(text)"""),
 }
 
 
