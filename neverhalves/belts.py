@@ -1,10 +1,12 @@
 """Belts: the swaps of a parted board at all its sources and at all other places, turn by turn."""
 from neverhalves.alikes import source_places, table_of
 from neverhalves.boards import check_board, swap_all, with_units
-from neverhalves.ends import check_ends, column_lot, sums_found
+from neverhalves.ends import check_ends, sums_found
 from neverhalves.errors import InvalidBoard, InvalidNumber
-from neverhalves.hands import begun, swapped_along
+from neverhalves.hands import begun
+from neverhalves.packs import swapped_along
 from neverhalves.terms import whole_power
+from neverhalves.ways import column_lot
 
 # What `number_of` tells of each type with each number of places.
 NUMBERS = {

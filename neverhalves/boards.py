@@ -99,16 +99,18 @@ def swap_once(board, place):
     """A board swapped at a place of it."""
     pivot = board[place]
     lines = []
-    for at, line in enumerate(board):
+    for line in board:
         lead = line[place]
-        if at == place:
-            line = tuple([-entry for entry in line])
-        elif lead:
-            line = tuple([
-                entry + (abs(lead) * across + lead * abs(across)) // 2 if other != place else -entry
-                for other, (entry, across) in enumerate(zip(line, pivot))
-            ])
+        # Entries move where those ahead and behind have one sign; half of both terms is left then.
+        if lead > 0:
+            line = [entry + lead * across if across > 0 else entry for entry, across in zip(line, pivot)]
+        elif lead < 0:
+            line = [entry - lead * across if across < 0 else entry for entry, across in zip(line, pivot)]
+        if lead:
+            line[place] = -lead
+            line = tuple(line)
         lines.append(line)
+    lines[place] = tuple([-entry for entry in pivot])
     return tuple(lines)
 
 
@@ -133,9 +135,8 @@ def swapped_by(board, row):
     return swap_all(board, row)
 
 
-def pieces(board):
-    """The ascending list of the ascending tuples of places that entries but 0 join."""
-    check_board(board)
+def pieces_found(board):
+    """What `pieces` tells, without checks."""
     found = []
     seen = {}
     for start in range(len(board[0])):
@@ -145,6 +146,12 @@ def pieces(board):
             for place in piece:
                 seen[place] = True
     return found
+
+
+def pieces(board):
+    """The ascending list of the ascending tuples of places that entries but 0 join."""
+    check_board(board)
+    return pieces_found(board)
 
 
 def table(board):

@@ -1,7 +1,12 @@
 """Books of rows: which lead to the same hand, which lead back, and the least one of them."""
+from neverhalves.alikes import table_of
 from neverhalves.boards import check_board, check_row, swap_once, with_units
 from neverhalves.columns import check_length, columns_of, units_behind
-from neverhalves.ends import column_lot
+from neverhalves.walks import packs_then
+from neverhalves.ways import column_lot, row_to_columns
+
+# So many bits for each number of a column are far more than rows of some swaps need.
+BITS = 128
 
 
 def alike_by(board, one, other):
@@ -9,83 +14,48 @@ def alike_by(board, one, other):
     return column_lot(units_behind(board, one)) == column_lot(units_behind(board, other))
 
 
-def next_level(level, known):
-    """A dict of the boards one swap from those of a level, by lots of columns, with their first rows.
+def units_packed(many):
+    """The packed columns of a unit board of so many places."""
+    return [1 << (BITS * at) for at in range(many)]
 
-    A lot that is known is left out, and each new one is known then.
+
+def longer_ways(ways):
+    """The list of the ways that go on with one place more, not the last one again.
+
+    A way is a tuple (row, table, packed columns); the tables are worked out where one goes on.
     """
-    found = {}
-    for row, now in level.values():
-        for place in range(len(now[0])):
-            then = swap_once(now, place)
-            lot = column_lot(then)
-            if lot not in known:
-                known[lot] = True
-                found[lot] = (row + (place,), then)
+    found = []
+    for row, rows, packs in ways:
+        now = swap_once(rows, row[-1]) if row else rows
+        for place in range(len(now)):
+            if row[-1:] != (place,):
+                found.append((row + (place,), now, packs_then(packs, now[place], place)))
     return found
 
 
-def least_way(start, end):
-    """The first row from a board to one that has, but for order, the columns of another one.
-
-    Both ends are looked around in turns: where the two meet is the middle of the row.
-    """
-    ahead, back = {column_lot(start): ((), start)}, [{column_lot(end): ((), end)}]
-    known, known_back = {lot: True for lot in ahead}, {lot: True for lot in back[0]}
-    while True:
-        met = [step for lot, step in ahead.items() if lot in back[-1]]
-        if met:
-            # They stand in the order of their rows, and the first row begins with one of them.
-            row, now = met[0]
-            return row + way_down(now, back[:-1])
-        if len(ahead) < len(back[-1]):
-            ahead = next_level(ahead, known)
-        else:
-            back.append(next_level(back[-1], known_back))
+def renumbered(row, packs, others):
+    """A row by the numbers that its places have where the same columns stand otherwise."""
+    places = {pack: place for place, pack in enumerate(others)}
+    return tuple([places[packs[place]] for place in row])
 
 
-def way_down(board, levels):
-    """The first row that comes, step by step, through the levels from the last one to the first."""
-    row = ()
-    for level in reversed(levels):
-        place = 0
-        while column_lot(swap_once(board, place)) not in level:
-            place += 1
-        board = swap_once(board, place)
-        row = row + (place,)
-    return row
-
-
-def plain_ways(start, length):
-    """The list of the tuples (row, board) of all rows of a length without a place twice side by side."""
-    found = [((), start)]
-    for _ in range(length):
-        found = [
-            (row + (place,), swap_once(now, place)) for row, now in found
-            for place in range(len(start[0])) if row[-1:] != (place,)
-        ]
-    return found
-
-
-def renumbered(row, board, other):
-    """A row by the numbers that the places of a board have in another one with the same columns."""
-    places = {column: place for place, column in enumerate(columns_of(other))}
-    columns = columns_of(board)
-    return tuple([places[columns[place]] for place in row])
-
-
-def ways_back(start, length):
-    """What `rows_back` tells of a length and the board with the marks of `unit_board`.
+def ways_back(rows, length):
+    """What `rows_back` tells of a length and a table.
 
     Each row is two halves: one ahead, and one ahead too that is gone from its end.
     """
+    ahead = [((), rows, units_packed(len(rows)))]
+    for _ in range(length // 2):
+        ahead = longer_ways(ahead)
     halves = {}
-    for way, then in plain_ways(start, length // 2):
-        halves.setdefault(column_lot(then), []).append((way[::-1], then))
+    for row, _, packs in ahead:
+        halves.setdefault(tuple(sorted(packs)), []).append((row[::-1], packs))
+    if length % 2:
+        ahead = longer_ways(ahead)
     found = []
-    for row, now in plain_ways(start, length - length // 2):
-        for way, then in halves.get(column_lot(now), []):
-            rest = renumbered(way, then, now)
+    for row, _, packs in ahead:
+        for way, others in halves.get(tuple(sorted(packs)), []):
+            rest = renumbered(way, others, packs)
             if not rest or rest[0] != row[-1]:
                 found.append(row + rest)
     return sorted(found)
@@ -127,14 +97,14 @@ def least_row(board, row):
     """The first row that leads to the hand behind a row but for order."""
     check_board(board)
     check_row(board, row)
-    return least_way(with_units(board), units_behind(board, row))
+    return row_to_columns(with_units(board), units_behind(board, row))
 
 
 def rows_back(board, length):
     """The ascending list of the plain rows of a length that lead to the first hand but for order."""
     check_board(board)
     check_length(length)
-    return ways_back(with_units(board), length)
+    return ways_back(table_of(board), length)
 
 
 def order_behind(board, row):

@@ -1,8 +1,7 @@
 """Columns: what becomes of the marks of the unit board; green places and full rows."""
 from neverhalves.boards import check_board, check_row, swap_all, swap_once, with_units
-from neverhalves.ends import column_lot
 from neverhalves.errors import InvalidNumber, InvalidRow
-from neverhalves.ways import first_row
+from neverhalves.ways import column_lot, first_row
 
 
 def units_behind(board, row):

@@ -1,12 +1,13 @@
 """Depths of sums, and which sums stand together in a hand."""
-from itertools import combinations
-
 from neverhalves.boards import check_board, check_place, check_row
-from neverhalves.ends import check_ends, hands_found, sums_found
+from neverhalves.ends import check_ends
 from neverhalves.errors import InvalidDepth, InvalidNumber, InvalidSum
-from neverhalves.hands import begun, swapped_along
+from neverhalves.hands import begun
+from neverhalves.kinds import lots_of
+from neverhalves.packs import sum_along
 from neverhalves.sums import check_sum
-from neverhalves.terms import least_of
+from neverhalves.terms import least_of, letter_of
+from neverhalves.walks import depths_of_walk, walked
 
 
 def check_told(board, told):
@@ -21,11 +22,35 @@ def depth_of(told, many):
     return tuple([-low for low in least_of(told)[:many]])
 
 
+def sum_at_number(board, walk, number):
+    """The sum that has a number in a walk."""
+    if number < len(board[0]):
+        return letter_of(number, len(board))
+    at, place = walk.origins[number]
+    return sum_along(begun(board), walk.rows[at] + (place,), place)
+
+
+def numbers_at(depths_found, told):
+    """The list of the numbers of the sums that have a depth."""
+    return [number for number, own in enumerate(depths_found) if own == told]
+
+
+def number_of_sum(board, walk, depths_found, told):
+    """The number of a sum in a walk, None if it is none of its sums."""
+    for number in numbers_at(depths_found, depth_of(told, len(board[0]))):
+        if sum_at_number(board, walk, number) == told:
+            return number
+    return None
+
+
 def rows_with(board, sums):
     """What `hands_with` tells, without checks."""
+    walk = walked(board)
+    found = depths_of_walk(walk)
+    numbers = [number_of_sum(board, walk, found, told) for told in sums]
     return [
-        row for row, hand in hands_found(board).items()
-        if all([told in hand[0] for told in sums])
+        row for row, hand in zip(walk.rows, walk.hands)
+        if all([number in hand for number in numbers])
     ]
 
 
@@ -40,7 +65,7 @@ def depths(board):
     """The ascending list of the depths of all sums of all hands."""
     check_board(board)
     check_ends(board)
-    return sorted(set([depth_of(told, len(board[0])) for told in sums_found(board)]))
+    return sorted(set(depths_of_walk(walked(board))))
 
 
 def sums_of_depth(board, told):
@@ -50,7 +75,9 @@ def sums_of_depth(board, told):
     if len(told) != many:
         raise InvalidDepth(told)
     check_ends(board)
-    return [one for one in sums_found(board) if depth_of(one, many) == told]
+    walk = walked(board)
+    numbers = numbers_at(depths_of_walk(walk), told)
+    return sorted([sum_at_number(board, walk, number) for number in numbers])
 
 
 def go_together(board, one, other):
@@ -77,12 +104,7 @@ def lots_together(board, many):
     if not 0 <= many <= len(board[0]):
         raise InvalidNumber(many)
     check_ends(board)
-    lots = {}
-    for hand in hands_found(board).values():
-        told = sorted(hand[0])
-        for lot in combinations(told, many):
-            lots[lot] = True
-    return len(lots)
+    return lots_of(board)[many]
 
 
 def partner(board, row, place):
@@ -90,4 +112,4 @@ def partner(board, row, place):
     check_board(board)
     check_row(board, row)
     check_place(board, place)
-    return swapped_along(begun(board), row + (place,))[0][place]
+    return sum_along(begun(board), row + (place,), place)

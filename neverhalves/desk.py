@@ -1,11 +1,13 @@
 """An office's desk: boards and rows under names, in forks, with a way back."""
 from neverhalves.boards import beside, check_board, check_row, negative, swapped_by, table, turned, unit_board
 from neverhalves.books import alike_by, back, behind
-from neverhalves.ends import check_ends, first_heavy, kinds_of
+from neverhalves.ends import check_ends, has_no_end
 from neverhalves.errors import (
     DoubleName, InvalidName, InvalidRow, NothingToUndo, UnknownName, Unreadable, WrongKind,
 )
-from neverhalves.hands import begun, swapped_along
+from neverhalves.hands import begun
+from neverhalves.kinds import kinds_of
+from neverhalves.packs import swapped_along
 from neverhalves.readers import board_in, row_in
 from neverhalves.texts import show_board, show_hand, show_row
 
@@ -196,7 +198,7 @@ class Desk:
 
     def is_endless(self, name):
         """True if a named board has endlessly many hands."""
-        return first_heavy(self.board_named(name)) is not None
+        return has_no_end(self.board_named(name))
 
     def types(self, name):
         """The ascending list of the types of the pieces of a named board."""

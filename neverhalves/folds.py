@@ -1,7 +1,8 @@
 """Folds: orders by which a table stays what it is, and the smaller tables that they make of it."""
 from neverhalves.boards import in_order, is_board, swap_all
 from neverhalves.errors import InvalidBoard, InvalidRow
-from neverhalves.hands import begun, fits_last, swapped_along
+from neverhalves.hands import begun, fits_last
+from neverhalves.packs import swapped_along
 from neverhalves.sums import check_sum
 from neverhalves.terms import with_powers
 

@@ -1,6 +1,7 @@
 """Hands: tuples (sums, board), the sums one for each place, and how they are swapped."""
 from neverhalves.boards import check_board, check_place, check_row, is_board, swap_once
 from neverhalves.errors import InvalidHand, InvalidRow, NotExact
+from neverhalves.packs import sum_along, swapped_along
 from neverhalves.sums import is_sum
 from neverhalves.terms import added, letter_of, product_of, quotient_of
 
@@ -34,21 +35,9 @@ def both_products(hand, place):
     return product_of(above, len(board)), product_of(below, len(board))
 
 
-def swapped_at(hand, place, sure=True):
-    """A hand swapped at a place of it; if it comes of a row, it is sure that the division is exact."""
-    sums, board = hand
-    above, below = both_products(hand, place)
-    told = quotient_of(added(above, below), sums[place], sure)
-    if told is None:
-        raise NotExact(place)
-    return sums[:place] + (told,) + sums[place + 1:], swap_once(board, place)
-
-
-def swapped_along(hand, row):
-    """A hand swapped at the places of a row, from the left."""
-    for place in row:
-        hand = swapped_at(hand, place)
-    return hand
+def swapped_at(hand, place):
+    """A hand that comes of a row, swapped at a place of it."""
+    return swapped_along(hand, (place,))
 
 
 def first_hand(board):
@@ -68,7 +57,13 @@ def swapped_hand(hand, place):
     """The hand swapped at a place."""
     check_hand(hand)
     check_place(hand[1], place)
-    return swapped_at(hand, place, False)
+    sums, board = hand
+    above, below = both_products(hand, place)
+    # A hand that is passed need not come of a row, so all may come here.
+    told = quotient_of(added(above, below), sums[place])
+    if told is None:
+        raise NotExact(place)
+    return sums[:place] + (told,) + sums[place + 1:], swap_once(board, place)
 
 
 def hand_by(board, row):
@@ -145,4 +140,4 @@ def sum_by(board, row):
     check_row(board, row)
     if not row:
         raise InvalidRow(row)
-    return swapped_along(begun(board), row)[0][row[-1]]
+    return sum_along(begun(board), row, row[-1])

@@ -1,11 +1,12 @@
 """Heights and shapes, and the sums that they tell."""
 from neverhalves.boards import check_board, check_row, swap_once, turned, with_units
 from neverhalves.columns import is_green_at
-from neverhalves.ends import check_ends, walk
+from neverhalves.ends import check_ends
 from neverhalves.errors import InvalidHeight, InvalidNumbers, InvalidSum
-from neverhalves.hands import swapped_along
+from neverhalves.packs import swapped_along
 from neverhalves.sums import check_sum, is_sum
 from neverhalves.terms import least_of, moved, with_powers
+from neverhalves.walks import row_to_heights
 
 
 def added_up(worths, lines):
@@ -70,15 +71,6 @@ def sum_made(board, height, shape):
         return ()
     spare = least_of(told)[len(board[0]):]
     return moved(told, tuple(height) + tuple([-low for low in spare]), 1)
-
-
-def row_among(board, wanted):
-    """The first row to a hand among whose heights all of a list are, None if there is none."""
-    for row, _ in walk(with_units(board))[0]:
-        told = heights_behind(board, row)
-        if all([height in told for height in wanted]):
-            return row
-    return None
 
 
 def heights(board, row):
@@ -151,7 +143,7 @@ def row_to_height(board, height):
     check_board(board)
     check_height(board, height)
     check_ends(board)
-    return row_among(board, [height])
+    return row_to_heights(board, [height])
 
 
 def hand_of_heights(board, told):
@@ -160,4 +152,4 @@ def hand_of_heights(board, told):
     for height in told:
         check_height(board, height)
     check_ends(board)
-    return row_among(board, told)
+    return row_to_heights(board, told)

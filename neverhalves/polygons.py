@@ -2,7 +2,8 @@
 from itertools import combinations
 
 from neverhalves.errors import InvalidCut, InvalidDiagonal, InvalidNumber, InvalidPlace
-from neverhalves.hands import begun, swapped_along
+from neverhalves.hands import begun
+from neverhalves.packs import swapped_along
 from neverhalves.terms import letter_of
 from neverhalves.ways import first_row
 

@@ -1,9 +1,10 @@
 """Rounds of hands: how long they are, and how the hands of a board hang together."""
 from itertools import combinations
 
-from neverhalves.boards import check_board, check_place, with_units
-from neverhalves.ends import check_ends, walk
+from neverhalves.boards import check_board, check_place
+from neverhalves.ends import check_ends
 from neverhalves.errors import InvalidPlace
+from neverhalves.walks import walked
 
 # How many swaps at two places by turns lead back, by what their entries multiplied are.
 LENGTHS = {0: 4, -1: 5, -2: 6, -3: 8}
@@ -28,7 +29,7 @@ def web(board):
     """The ascending list of the pairs of indexes in `all_rows` of hands one swap from one another."""
     check_board(board)
     check_ends(board)
-    links = walk(with_units(board))[1]
+    links = walked(board).links
     return sorted([(at, other) for at, steps in enumerate(links) for other in steps if at < other])
 
 
@@ -37,8 +38,9 @@ def rings(board):
     check_board(board)
     check_ends(board)
     counts = {}
-    for _, now in walk(with_units(board))[0]:
-        for place, other in combinations(range(len(board[0])), 2):
+    pairs = list(combinations(range(len(board[0])), 2))
+    for now in walked(board).tables:
+        for place, other in pairs:
             length = length_at(now, place, other)
             counts[length] = counts.get(length, 0) + 1
     # Each round was met once from each of its hands.
@@ -49,5 +51,5 @@ def distances(board):
     """The list that tells how many hands are so many swaps, from 0 on, from the first one."""
     check_board(board)
     check_ends(board)
-    lengths = [len(row) for row, _ in walk(with_units(board))[0]]
+    lengths = [len(row) for row in walked(board).rows]
     return [lengths.count(far) for far in range(lengths[-1] + 1)]

@@ -6,8 +6,9 @@ for each letter: such integers add as the powers do, and they ascend as the powe
 from heapq import heapify, heappop, heappush
 from math import gcd
 
-# Divisions are tried modulo this prime first: a rest that is left there is left at all.
-PRIME = 2305843009213693951
+# Divisions are tried modulo this prime first: a rest that is left there is left at all. The half
+# of the number ahead of it is a prime, too, so that roots modulo it are found by powers.
+PRIME = 1152921504606843299
 
 
 def letter_of(at, many):
@@ -173,11 +174,8 @@ def coefficients_divided(told, coefficient):
     return tuple(terms)
 
 
-def quotient_of(one, other, sure=False):
-    """The sum that, times the other one, which is not 0, is the one; None if there is none.
-
-    It is quicker where one is sure that there is one.
-    """
+def quotient_of(one, other):
+    """The sum that, times the other one, which is not 0, is the one; None if there is none."""
     if not one:
         return ()
     if len(other) == 1:
@@ -187,7 +185,7 @@ def quotient_of(one, other, sure=False):
     highs = [mine - its for mine, its in zip(greatest_of(one), greatest_of(other))]
     if any([low > high for low, high in zip(lows, highs)]):
         return None
-    if not sure and not may_divide(one, other):
+    if not may_divide(one, other):
         return None
     bits = width_for(reach_of(one) + reach_of(other))
     bounds = (lows, highs, unpacker(len(lows), bits))
